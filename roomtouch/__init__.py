@@ -1,0 +1,1 @@
+"""Roomtouch: floors of oblong rooms that touch just as told."""

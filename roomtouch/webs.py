@@ -163,6 +163,17 @@ def must_web(web):
         raise NoWeb("the web can't be drawn without crossings")
 
 
+def begun_at_first(ring):
+    """A ring begun with the first of its names."""
+    at = ring.index(min(ring))
+    return ring[at:] + ring[:at]
+
+
+def in_order(web):
+    """A web put in order, each ring begun with the first of its names, with lists of its own."""
+    return sorted([(room, begun_at_first(ring)) for room, ring in web])
+
+
 def are_tied(rings, one, other):
     """Whether two names, rooms or walls, are tied."""
     if one in rings:

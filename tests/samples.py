@@ -157,6 +157,11 @@ def bars_by_the_words(web):
 
 def named_in_turn(web):
     """The web with its rooms called a, b, c.. as they are come to from the corner of north and east."""
+    return names_in_turn(web)[1]
+
+
+def names_in_turn(web):
+    """The names by the old ones, and the web with these names."""
     rings = dict(web)
     start = [room for room in rings if ("north", "east") in zip(rings[room], rings[room][1:] + rings[room][:1])]
     order = [(start[0], "north")]
@@ -171,7 +176,7 @@ def named_in_turn(web):
                 names[name] = "abcdefghijkl"[len(order)]
                 order.append((name, room))
         told.append((names[room], [names[name] for name in ring]))
-    return told
+    return names, told
 
 
 def flips(web):
@@ -301,3 +306,169 @@ def wander(web, count, seed):
         near = list(flips(web))
         web = near[next(steps) % len(near)]
     return web
+
+
+def is_any_floor_by_the_words(rows):
+    """Whether rows are a floor, of whichever web, by looking at each field between the numbers that occur."""
+    if not 1 <= len(rows) <= 8 or len({row[0] for row in rows}) != len(rows):
+        return False
+    for room, left, bottom, right, top in rows:
+        if not re.fullmatch("[a-z]{1,8}", room) or room in WALLS:
+            return False
+        if {number.__class__ for number in (left, bottom, right, top)} != {int}:
+            return False
+        if left < 0 or bottom < 0 or left >= right or bottom >= top:
+            return False
+    lines = sorted({0} | {row[1] for row in rows} | {row[3] for row in rows})
+    heights = sorted({0} | {row[2] for row in rows} | {row[4] for row in rows})
+    for left, right in zip(lines, lines[1:]):
+        for bottom, top in zip(heights, heights[1:]):
+            over = [r for r in rows if r[1] <= left and right <= r[3] and r[2] <= bottom and top <= r[4]]
+            if len(over) != 1:
+                return False
+    return True
+
+
+def pairs_touching(floor):
+    """All pairs of names, a wall's among them, that share a piece of wall."""
+    east = max(row[3] for row in floor)
+    north = max(row[4] for row in floor)
+    pairs = set()
+    for room, left, bottom, right, top in floor:
+        for name, side, line in [("west", left, 0), ("south", bottom, 0), ("east", right, east), ("north", top, north)]:
+            if side == line:
+                pairs.add(frozenset((room, name)))
+        for name, other_left, other_bottom, other_right, other_top in floor:
+            if top == other_bottom and (left <= other_left < right or other_left <= left < other_right):
+                pairs.add(frozenset((room, name)))
+            if right == other_left and (bottom <= other_bottom < top or other_bottom <= bottom < other_top):
+                pairs.add(frozenset((room, name)))
+    return pairs
+
+
+def is_floor_by_the_words(web, rows):
+    """Whether rows are a floor of the web."""
+    if not is_any_floor_by_the_words(rows) or {row[0] for row in rows} != {room for room, _ in web}:
+        return False
+    return pairs_touching(rows) == {frozenset((room, name)) for room, ring in web for name in ring}
+
+
+def four_meet(floor):
+    """Whether a spot is a corner of four rooms."""
+    spots = [(x, y) for _, left, bottom, right, top in floor for x in (left, right) for y in (bottom, top)]
+    return any(spots.count(spot) > 3 for spot in spots)
+
+
+def floors_within(width, height, count):
+    """All floors of so many rooms, a, b, c.., that fill an oblong, but for the names."""
+
+    def fill(heights, rows):
+        low = min(heights)
+        if low == height and len(rows) == count:
+            yield rows
+        if low == height or len(rows) == count:
+            return
+        left = right = heights.index(low)
+        while right < width and heights[right] == low:
+            right += 1
+            for top in range(low + 1, height + 1):
+                row = ("abcdefgh"[len(rows)], left, low, right, top)
+                yield from fill(heights[:left] + [top] * (right - left) + heights[right:], rows + [row])
+
+    return fill([0] * width, [])
+
+
+def floors_by_tinting(count, most):
+    """All floors of so many rooms with numbers up to most, without a meeting of four, by web and tinting.
+
+    The webs are named in turn, as those of all_webs.
+    """
+    found = {}
+    for width, height in itertools.product(range(1, most + 1), repeat=2):
+        for floor in floors_within(width, height, count):
+            if not four_meet(floor):
+                names, web = names_in_turn(web_of_floor(floor))
+                named = sorted((names[row[0]],) + row[1:] for row in floor)
+                found.setdefault((repr(web), repr(tinting_of_floor(named))), []).append(named)
+    return found
+
+
+def least_of(floors):
+    """The tuples of the least numbers at each place of floors of the same rooms, each in order."""
+    return [rows[0][:1] + tuple(min(numbers) for numbers in zip(*rows))[1:] for rows in zip(*floors)]
+
+
+def fits_wishes(floor, sizes):
+    """Whether each room that is named in sizes is at least so wide and so high."""
+    wide = {row[0]: row[3] - row[1] for row in floor}
+    high = {row[0]: row[4] - row[2] for row in floor}
+    return all(wide[room] >= width and high[room] >= height for room, width, height in sizes)
+
+
+def walls_of(floor, place):
+    """The sides, tuples (room, place), in lots that lie on one wall, but for those at 0; the place is 1 or 2."""
+    pairs = pairs_touching(floor)
+    lots = [{(row[0], side)} for row in floor for side in (place, place + 2) if row[side] != 0]
+    for one, other in itertools.permutations(floor, 2):
+        same = []
+        if one[place + 2] == other[place] and frozenset((one[0], other[0])) in pairs:
+            same = [(one[0], place + 2), (other[0], place)]
+        if one[place + 2] == other[place + 2] == max(row[place + 2] for row in floor):
+            same = [(one[0], place + 2), (other[0], place + 2)]
+        touched = [lot for lot in lots if lot & set(same)]
+        lots = [lot for lot in lots if lot not in touched] + ([set().union(*touched)] if touched else [])
+    return lots
+
+
+def with_wall_moved(floor, wall, step):
+    """The list that comes of a wall, a lot of sides, moved by a step."""
+    return [row[:1] + tuple(row[k] + step * ((row[0], k) in wall) for k in (1, 2, 3, 4)) for row in floor]
+
+
+def shrunk(web, floor, sizes):
+    """The least floor of a floor's tinting and with wishes, by moving its walls one by one, step by step."""
+    tinting = tinting_of_floor(floor)
+    walls = walls_of(floor, 1) + walls_of(floor, 2)
+    still = 0
+    for wall in itertools.cycle(walls):
+        if still == len(walls):
+            return sorted(floor)
+        moved = with_wall_moved(floor, wall, -1)
+        good = fits_wishes(moved, sizes) and is_floor_by_the_words(web, moved) and tinting_of_floor(moved) == tinting
+        still = 0 if good else still + 1
+        floor = moved if good else floor
+
+
+def ranked(floor, step=1):
+    """The floor with each number as small as its order among the others lets it be, times a step."""
+    lines = sorted({row[1] for row in floor} | {row[3] for row in floor})
+    heights = sorted({row[2] for row in floor} | {row[4] for row in floor})
+    told = []
+    for room, left, bottom, right, top in floor:
+        numbers = (lines.index(left), heights.index(bottom), lines.index(right), heights.index(top))
+        told.append((room,) + tuple(step * number for number in numbers))
+    return told
+
+
+def stretched(floor, lines, heights):
+    """The floor with the numbers k of its lines and heights put to other ones, lines[k] and heights[k]."""
+    return [(r[0], lines[r[1]], heights[r[2]], lines[r[3]], heights[r[4]]) for r in floor]
+
+
+def renamed(floor, names):
+    """The floor with its rooms a, b, c.. called otherwise, in turn."""
+    return [(names["abcdefgh".index(row[0])],) + row[1:] for row in floor]
+
+
+def web_in_order(web):
+    """The web in order, each ring begun with its first name."""
+    return sorted((room, min(ring[k:] + ring[:k] for k in range(len(ring)))) for room, ring in web)
+
+
+def lists_within(thing):
+    """All lists that stand in a thing, itself among them, each as often as it stands there."""
+    found = [thing] if isinstance(thing, list) else []
+    if isinstance(thing, (list, tuple)):
+        for part in thing:
+            found += lists_within(part)
+    return found

@@ -67,6 +67,42 @@ class Form(unittest.TestCase):
             self.assertRegex(node.module, r"^roomtouch\.")
             self.assertNotIn("*", [alias.name for alias in node.names])
 
+    def test_no_two_files_draw_from_one_another(self):
+        drawn = {path.stem: set() for path in files()}
+        for name, node in nodes(ast.ImportFrom):
+            drawn[name[:-3]].add(node.module.split(".")[1])
+        while drawn:
+            free = [name for name in drawn if not drawn[name] & set(drawn)]
+            self.assertNotEqual(free, [], drawn)
+            drawn = {name: drawn[name] for name in drawn if name not in free}
+
+    def test_no_parameter_or_local_is_called_like_a_class_or_an_import(self):
+        for name, tree in trees():
+            taken = {node.name for node in ast.walk(tree) if isinstance(node, ast.ClassDef)}
+            for node in ast.walk(tree):
+                if isinstance(node, ast.ImportFrom):
+                    taken |= {alias.name for alias in node.names}
+            for node in ast.walk(tree):
+                if isinstance(node, ast.arg):
+                    self.assertNotIn(node.arg, taken, name)
+                if isinstance(node, ast.Name) and isinstance(node.ctx, ast.Store):
+                    self.assertNotIn(node.id, taken, name)
+
+    def test_methods_and_values_have_names_of_their_own(self):
+        methods = {part.name for _, node in nodes(ast.ClassDef) for part in node.body if isinstance(part, ast.FunctionDef)}
+        values = {node.attr for _, node in nodes(ast.Attribute) if isinstance(node.ctx, ast.Store)}
+        self.assertEqual(methods & values, set())
+        self.assertEqual(values & set(METHODS), set())
+
+    def test_is_and_plain_f_strings(self):
+        for name, node in nodes(ast.Compare):
+            for step, right in zip(node.ops, node.comparators):
+                if isinstance(step, (ast.Is, ast.IsNot)):
+                    self.assertIsInstance(right, ast.Constant, name)
+        for name, node in nodes(ast.FormattedValue):
+            self.assertIsInstance(node.value, ast.Name, name)
+            self.assertIsNone(node.format_spec, name)
+
     def test_names(self):
         barred = set(dir(builtins)) - set(BUILTINS)
         for name, node in nodes(ast.Name):

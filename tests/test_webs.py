@@ -6,10 +6,14 @@ import unittest
 
 import samples
 from roomtouch import errors
+from roomtouch.floors import is_floor, least_floor, tinting_of, wished
+from roomtouch.texts import show_web
 from roomtouch.tintings import is_tinting, tintings
 from roomtouch.webs import bars, must_web
 
-ASKED = [must_web, bars, tintings, lambda web: is_tinting(web, [])]
+# Whatever else is handed in would be refused too, or told of as wrong: NoWeb comes first.
+ASKED = [must_web, bars, tintings, show_web, lambda web: is_tinting(web, []), lambda web: is_floor(web, [])]
+ASKED += [lambda web: tinting_of(web, []), lambda web: least_floor(web, []), lambda web: wished(web, [], [])]
 OTHER_REFUSALS = ["NoTinting", "NoFloor", "Meeting", "NoRoom", "NoName", "Twice", "NoCut", "TooMany", "NoDeed", "NoText"]
 NORTH, EAST, SOUTH, WEST = samples.WALLS
 
